@@ -1,0 +1,1 @@
+"""Nolunch: safe prices of contracts in finite markets."""
