@@ -55,6 +55,11 @@ def total(items):
     return result
 
 
+def dot(a, b):
+    """Return the sum of the products of two rows of as many fractions."""
+    return total([times(x, y) for x, y in zip(a, b)])
+
+
 def write_fraction(a):
     """Return the text of a fraction."""
     numerator, denominator = a

@@ -55,6 +55,8 @@ NOT_MARKETS = {
     "price missing behind": (2, ((price(1, 1),), (((), ()),))),
     "price too many": (1, ((price(1, 1),), ())),
     "price too many behind": (2, ((price(1, 1),), (((price(1, 1),) * 2, ()),))),
+    "one price instead of a pair": (2, ((((1, 1),),), ())),
+    "three prices instead of a pair": (2, ((((2, 1), (1, 1), (1, 1)),), ())),
     "sell above buy": (2, ((((1, 2), (2, 3)),), ())),
     "sell above buy behind": (2, ((price(1, 1),), (((price(1, 2),), ()),))),
     "sell negative": (2, ((((1, 1), (-1, 3)),), ())),

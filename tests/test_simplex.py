@@ -1,0 +1,48 @@
+"""Programs of any size, and rows that stay tight together."""
+
+import random
+import unittest
+from fractions import Fraction
+
+from linear import hold_result, program
+from nolunch.simplex import solved
+
+
+class AnySize(unittest.TestCase):
+    def test_beyond_the_limits_of_programs(self):
+        for variables, rows in ((201, 2), (2, 121), (260, 150)):
+            for bound in (1, -1):
+                told = program([1 + k % 3 for k in range(variables)],
+                               *[[bound * int(k % rows == row or row % variables == k)
+                                  for k in range(variables)] + [bound] for row in range(rows)])
+                hold_result(self, told, solved(told))
+
+
+class TiedRows(unittest.TestCase):
+    def test_rows_that_stay_tight_when_their_bounds_are_nudged(self):
+        # Each row times the size of its nudge: the nudges of its kind are tied as well.
+        source = random.Random(5)
+        for turn in range(200):
+            variables, rows = source.randint(1, 6), source.randint(2, 8)
+            kinds = [[source.randint(-2, 2) for _ in range(variables)] for _ in range(2)]
+            told = program(
+                [source.randint(-1, 2) for _ in range(variables)],
+                *[[(row * 7919 % 1009 + 1) * number for number in source.choice(kinds)] + [0]
+                  for row in range(rows)])
+            hold_result(self, told, solved(told))
+
+    def test_the_same_with_bounds_below_0(self):
+        source = random.Random(7)
+        for turn in range(200):
+            variables, rows = source.randint(1, 5), source.randint(2, 8)
+            kinds = [[source.randint(-2, 2) for _ in range(variables)] + [source.randint(-1, 0)]
+                     for _ in range(3)]
+            told = program(
+                [Fraction(source.randint(-2, 2), 3) for _ in range(variables)],
+                *[[(row * 7919 % 1009 + 1) * number for number in source.choice(kinds)]
+                  for row in range(rows)])
+            hold_result(self, told, solved(told))
+
+
+if __name__ == "__main__":
+    unittest.main()
