@@ -85,7 +85,7 @@ class Reading(unittest.TestCase):
                             EXAMPLE_TEXT.replace("moment 0", "goods 2\nmoment 0"),
                             "good 2\n" + moments, "Goods 2\n" + moments, "goods 2 2\n" + moments,
                             "goods two\n" + moments, "goods 02\n" + moments, "goods +2\n" + moments,
-                            "goods 2.0\n" + moments, "goods 4/2\n" + moments, "2\n" + moments,
+                            "goods -1\nmoment -\n", "goods 2.0\n" + moments, "goods 4/2\n" + moments, "2\n" + moments,
                             "goods \u0662\n" + moments, "goods 2\n", "goods 1\n"))
 
     def test_moment_words(self):
