@@ -17,6 +17,16 @@ def read_natural(text):
     return int(text)
 
 
+def read_integer(text):
+    """Return the integer with a text of at most DIGIT_LIMIT digits, and a sign if it is below 0."""
+    if not text.startswith("-"):
+        return read_natural(text)
+    number = read_natural(text.removeprefix("-"))
+    if number == 0:
+        raise TextError("0 has no sign")
+    return -number
+
+
 def write_integer(number):
     """Return the decimal text of an integer of any length."""
     # str() refuses integers of some thousand digits, so it gets them in pieces.

@@ -60,6 +60,21 @@ def dot(a, b):
     return total([times(x, y) for x, y in zip(a, b)])
 
 
+def added(a, b):
+    """Return the row of the sums of two rows of as many fractions."""
+    return tuple([plus(x, y) for x, y in zip(a, b)])
+
+
+def multiplied(row, factor):
+    """Return the row of the products of some fractions and a factor."""
+    return tuple([times(number, factor) for number in row])
+
+
+def any_negative(row):
+    """Tell whether one of some fractions is below 0."""
+    return any([numerator < 0 for numerator, _ in row])
+
+
 def write_fraction(a):
     """Return the text of a fraction."""
     numerator, denominator = a

@@ -1,9 +1,9 @@
-"""Decimal texts of integers, as points 102 and 205 use them."""
+"""Decimal texts of integers, as points 102, 205 and 504 use them."""
 
 import unittest
 
 from nolunch.errors import TextError
-from nolunch.integers import read_natural, write_integer
+from nolunch.integers import read_integer, read_natural, write_integer
 
 
 class Integers(unittest.TestCase):
@@ -14,6 +14,14 @@ class Integers(unittest.TestCase):
                      "1_0", "a", "\u0661", "\u00b2"):
             with self.subTest(text=text):
                 self.assertRaises(TextError, read_natural, text)
+
+    def test_integers_of_at_most_nine_digits(self):
+        for number in (0, 1, -1, 10, -10, 999999999, -999999999):
+            self.assertEqual(read_integer(str(number)), number)
+        for text in ("-0", "-00", "-01", "--1", "+1", "-+1", "- 1", "-", "", "1000000000", "-1000000000",
+                     "1-", "01", "-\u0661"):
+            with self.subTest(text=text):
+                self.assertRaises(TextError, read_integer, text)
 
     def test_integers_of_any_length(self):
         for power in (0, 1, 63, 64, 65, 128, 1000):

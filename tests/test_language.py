@@ -81,8 +81,9 @@ class Language(unittest.TestCase):
                     self.assertEqual(node.decorator_list, [], where)
 
     def test_builtins_and_methods(self):
+        own = {node.name for _, _, tree in sources() for node in ast.walk(tree)
+               if isinstance(node, ast.FunctionDef)}
         for path, _, tree in sources():
-            own = {node.name for node in ast.walk(tree) if isinstance(node, ast.FunctionDef)}
             bound = {node.id for node in ast.walk(tree)
                      if isinstance(node, ast.Name) and isinstance(node.ctx, ast.Store)}
             bound |= {node.arg for node in ast.walk(tree) if isinstance(node, ast.arg)}
