@@ -13,7 +13,7 @@ from nolunch.gains import sure_gain
 from nolunch.hedging import cost, interval, worth_of_ways
 from nolunch.markets import moments
 from nolunch.texts import read_contract
-from playing import (ALL_CONTRACTS, CONTRACTS, EVEN, FAIR_MARKETS, SPREAD, STEPS, THREE, Played,
+from playing import (ALL_CONTRACTS, CONTRACTS, EVEN, FAIR_MARKETS, SPREAD, STEPS, Played,
                      either, hold_cost, less_or_same, scaled)
 from samples import (EXAMPLE, LINE, MONEY_ALONE, MONEY_TREE, WIDE, chain, check_market_errors,
                      is_plain, price, star)
