@@ -7,7 +7,7 @@ Each point is a mixture of points of the next moments. The points of a place are
 for, but only those that a need of the next ones, at some held units, tells to be missing.
 """
 
-from nolunch.ratios import (added, compare, dot, minus, multiplied, over, plus, times, total)
+from nolunch.ratios import added, compare, dot, minus, multiplied, over, plus, times, total
 from nolunch.simplex import solved
 
 
