@@ -3,7 +3,7 @@
 from nolunch.contracts import check_contract
 from nolunch.errors import TooLarge, WayError
 from nolunch.markets import check_market
-from nolunch.places import all_places
+from nolunch.places import all_places, first_place
 
 WAY_LIMIT = 64
 SETTLED_LIMIT = 200
@@ -25,14 +25,19 @@ def checked_places(market, contract, side):
     """Return all places, ascending by their histories, or raise the errors of ways."""
     check_market(market)
     check_contract(market[0], contract)
+    check_side(side)
+    return places_for(first_place(market, (), contract), side)
+
+
+def check_side(side):
+    """Return None if something is a side, raise otherwise."""
     if side not in ("giver", "holder"):
         raise WayError("a side is the giver or the holder")
-    return places_for(market, contract, side)
 
 
-def places_for(market, contract, side):
-    """Return all places of a contract, unless there are too many settled ones, or too many ways."""
-    places = all_places(market, contract, SETTLED_LIMIT, True)
+def places_for(first, side):
+    """Return a first place and all behind it, unless too many are settled, or a side has too many ways."""
+    places = all_places(first, SETTLED_LIMIT, True)
     if _count_ways(places, side) > WAY_LIMIT:
         raise TooLarge("a side has too many ways")
     return places

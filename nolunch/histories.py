@@ -9,19 +9,20 @@ HISTORY_LIMIT = 400
 
 def place_of(market, contract, history):
     """Return the pair of the path and the contract to which a history leads."""
-    place = _place_at(market, contract, history)
-    return (place.path, place.contract)
+    place = place_behind(market, contract, history)
+    return (place.moment, place.contract)
 
 
 def paid(market, contract, history):
     """Return the sum of all amounts that were paid on the way of a history."""
-    return _place_at(market, contract, history).given
+    return place_behind(market, contract, history).given
 
 
-def _place_at(market, contract, history):
+def place_behind(market, contract, history):
+    """Return the place to which a history leads."""
     check_market(market)
     check_contract(market[0], contract)
-    place = first_place(market, contract)
+    place = first_place(market, (), contract)
     for number in history:
         place = place.next_place(number)
     return place
@@ -29,7 +30,11 @@ def _place_at(market, contract, history):
 
 def whole_histories(market, contract):
     """Return all whole histories, ascending."""
+    return tuple([place.history for place in few_places(market, contract) if place.is_whole()])
+
+
+def few_places(market, contract):
+    """Return all places, ascending by their histories, unless there are too many of them."""
     check_market(market)
     check_contract(market[0], contract)
-    places = all_places(market, contract, HISTORY_LIMIT, False)
-    return tuple([place.history for place in places if place.is_whole()])
+    return all_places(first_place(market, (), contract), HISTORY_LIMIT, False)

@@ -7,7 +7,7 @@ Each point is a mixture of points of the next moments. The points of a place are
 for, but only those that a need of the next ones, at some held units, tells to be missing.
 """
 
-from nolunch.ratios import added, compare, dot, minus, multiplied, over, plus, times, total
+from nolunch.ratios import added, compare, dot, lowest, minus, multiplied, over, plus, times, total
 from nolunch.simplex import solved
 
 
@@ -51,10 +51,10 @@ class Need:
 
     def _middle_point(self, middles):
         """Return the point at the prices of fair weights, with which the columns begin."""
-        money, prices = middles[self.place.path]
+        money, prices = middles[self.place.moment]
         shares = []
         for index, group in enumerate(self.groups):
-            behind, _ = middles[self.place.path + (index,)]
+            behind, _ = middles[self.place.moment + (index,)]
             best = group[0].middle
             for need in group:
                 if compare(need.middle.worth, best.worth) > 0:
@@ -125,12 +125,8 @@ def best_mixture(prices, points, held):
     them, which is returned, too.
     """
     gains = [point.missing(held) for point in points]
-    lowest = gains[0]
-    for gain in gains:
-        if compare(gain, lowest) < 0:
-            lowest = gain
     # With all gains above 0, the best shares add up to all that the first row allows, 1.
-    lift = minus((1, 1), lowest)
+    lift = minus((1, 1), lowest(gains))
     rows = [(((1, 1),) * len(points), (1, 1))]
     for good, (buy, sell) in enumerate(prices):
         column = [point.prices[good] for point in points]

@@ -1,6 +1,7 @@
 """Places: where the histories of a contract lead."""
 
 from nolunch.errors import HistoryError, TooLarge
+from nolunch.markets import node_at
 from nolunch.ratios import added
 from nolunch.stepping import face
 
@@ -8,16 +9,17 @@ from nolunch.stepping import face
 class Place:
     """The moment and the contract to which a history leads.
 
-    side is the one that is asked there, None if the place pays. amounts is what it pays itself,
-    None if it asks, and given what has been paid on the way, this place included. branches are
-    the places that come next, as far as they have been looked for.
+    moment is the path of the moment. side is the one that is asked there, None if the place
+    pays. amounts is what it pays itself, None if it asks, and given what has been paid on the
+    way, this place included. branches are the places that come next, as far as they have been
+    looked for.
     """
 
-    def __init__(self, history, path, node, contract, given):
+    def __init__(self, history, moment, node, contract, given):
         prices, _ = node
-        told = face(len(path), prices, contract)
+        told = face(len(moment), prices, contract)
         self.history = history
-        self.path = path
+        self.moment = moment
         self.node = node
         self.contract = contract
         self.side = told[1] if told[0] == "ask" else None
@@ -37,9 +39,9 @@ class Place:
             raise HistoryError("a number of a history does not fit")
         history = self.history + (number,)
         if self.side is not None:
-            return Place(history, self.path, self.node, self.left[number], self.given)
-        path = self.path + (number,)
-        return Place(history, path, following[number], self.left[0], self.given)
+            return Place(history, self.moment, self.node, self.left[number], self.given)
+        moment = self.moment + (number,)
+        return Place(history, moment, following[number], self.left[0], self.given)
 
     def look_ahead(self):
         """Look for the places that come next, and return them."""
@@ -48,20 +50,20 @@ class Place:
         return self.branches
 
 
-def first_place(market, contract):
-    """Return the place of the empty history of a checked contract in a checked market."""
-    goods, node = market
-    return Place((), (), node, contract, ((0, 1),) * goods)
+def first_place(market, path, contract):
+    """Return the place of the empty history of a contract that is entered at a moment."""
+    goods, _ = market
+    return Place((), path, node_at(market, path), contract, ((0, 1),) * goods)
 
 
-def all_places(market, contract, limit, settled_alone):
-    """Return all places, ascending by their histories, with their branches.
+def all_places(first, limit, settled_alone):
+    """Return a first place and all behind it, ascending by their histories, with their branches.
 
     TooLarge if there are more than some limit, or more settled ones, if only these count.
     """
     found = []
     many = 0
-    waiting = [first_place(market, contract)]
+    waiting = [first]
     while waiting:
         place = waiting.pop()
         found.append(place)

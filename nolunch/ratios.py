@@ -70,6 +70,24 @@ def multiplied(row, factor):
     return tuple([times(number, factor) for number in row])
 
 
+def lowest(items):
+    """Return the least of some fractions."""
+    best = items[0]
+    for item in items:
+        if compare(item, best) < 0:
+            best = item
+    return best
+
+
+def highest(items):
+    """Return the greatest of some fractions."""
+    best = items[0]
+    for item in items:
+        if compare(item, best) > 0:
+            best = item
+    return best
+
+
 def any_negative(row):
     """Tell whether one of some fractions is below 0."""
     return any([numerator < 0 for numerator, _ in row])

@@ -29,6 +29,11 @@ class Table:
         self.own = list(range(self.width, self.width + self.many))
         self.order = list(self.own)
 
+    def add_goal(self, gains):
+        """Add a row for another gain at the first point, and return its place."""
+        self.rows.append([-gain for gain in gains] + [0, 0, 1])
+        return len(self.rows) - 1
+
     def begin(self):
         """Go to a point that keeps the program, and tell whether there is one."""
         lowest = min([row[BOUND] for row in self.rows[:self.many]], default=0)
@@ -189,13 +194,23 @@ def _scaled(numbers, scale):
     return [numerator * (scale // denominator) for numerator, denominator in numbers]
 
 
+def _row_scale(row):
+    factors, bound = row
+    return _scale(factors + (bound,))
+
+
+def _scaled_row(row):
+    factors, bound = row
+    scale = _row_scale(row)
+    return (_scaled(factors, scale), bound[0] * (scale // bound[1]))
+
+
 def solved(program):
     """Return the result, as best_of tells it, of a program of any size."""
     gains, rows = program
     gain_scale = _scale(gains)
-    scales = [_scale(factors + (bound,)) for factors, bound in rows]
-    table = Table([(_scaled(factors, scale), bound[0] * (scale // bound[1]))
-                   for (factors, bound), scale in zip(rows, scales)], _scaled(gains, gain_scale))
+    scales = [_row_scale(row) for row in rows]
+    table = Table([_scaled_row(row) for row in rows], _scaled(gains, gain_scale))
     if not table.begin():
         weights = table.weights(table.many + 1)
         return ("none", _unscaled(weights, scales, 1))
@@ -203,6 +218,22 @@ def solved(program):
     if column is not None:
         return ("endless", table.point(), table.way(column))
     return ("best", table.point(), _unscaled(table.weights(table.many), scales, gain_scale))
+
+
+def greatest_gains(rows, goals):
+    """Return for each of some goals, rows of gains, the greatest gain of a point that keeps some rows.
+
+    There is a row, the bounds of the rows are at least 0, and no gain is endless.
+    """
+    scales = [_scale(goal) for goal in goals]
+    table = Table([_scaled_row(row) for row in rows], [0] * len(rows[0][0]))
+    places = [table.add_goal(_scaled(goal, scale)) for goal, scale in zip(goals, scales)]
+    found = []
+    for place, scale in zip(places, scales):
+        table.improve(place)
+        row = table.rows[place]
+        found.append(fraction(row[BOUND], row[OWN] * scale))
+    return found
 
 
 def _unscaled(weights, scales, gain_scale):

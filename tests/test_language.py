@@ -8,7 +8,7 @@ PACKAGE = pathlib.Path(__file__).resolve().parent.parent / "nolunch"
 LIBRARY = {"math": {"gcd", "lcm"}}
 BUILTINS = {"len", "range", "enumerate", "zip", "min", "max", "sum", "abs", "sorted", "reversed",
             "int", "str", "bool", "list", "tuple", "dict", "set", "isinstance", "repr", "any",
-            "all", "divmod", "ValueError"}
+            "all", "divmod", "ValueError", "property"}
 METHODS = {"append", "copy", "count", "endswith", "extend", "find", "get", "index", "insert",
            "isdigit", "items", "join", "keys", "pop", "remove", "replace", "reverse", "rfind",
            "split", "startswith", "values", "zfill", "isascii", "removeprefix", "partition"}
@@ -78,7 +78,41 @@ class Language(unittest.TestCase):
                 if isinstance(node, ast.Constant):
                     self.assertIn(type(node.value), (int, str, bool, type(None)), where)
                 if isinstance(node, (ast.FunctionDef, ast.ClassDef)):
-                    self.assertEqual(node.decorator_list, [], where)
+                    told = [ast.unparse(each) for each in node.decorator_list]
+                    self.assertIn(told, ([], ["property"]), where)
+
+    def test_names_of_properties_are_those_of_nothing_else(self):
+        properties, others = [], set()
+        for _, _, tree in sources():
+            for each in [node for node in ast.walk(tree) if isinstance(node, ast.ClassDef)]:
+                for node in each.body:
+                    if isinstance(node, ast.FunctionDef) and node.decorator_list:
+                        properties.append(node.name)
+                    elif isinstance(node, ast.FunctionDef):
+                        others.add(node.name)
+            others |= {node.attr for node in ast.walk(tree)
+                       if isinstance(node, ast.Attribute) and isinstance(node.ctx, ast.Store)}
+        self.assertEqual(sorted(properties), ["deals", "held", "log", "path", "settled"])
+        self.assertFalse(set(properties) & others)
+
+    def test_no_local_name_is_that_of_an_import_or_a_class(self):
+        for path, _, tree in sources():
+            taken = {alias.name for node in ast.walk(tree) if isinstance(node, ast.ImportFrom)
+                     for alias in node.names}
+            taken |= {node.name for node in ast.walk(tree) if isinstance(node, ast.ClassDef)}
+            for node in ast.walk(tree):
+                if isinstance(node, ast.Name) and isinstance(node.ctx, ast.Store):
+                    self.assertNotIn(node.id, taken, (path.name, node.lineno))
+                if isinstance(node, ast.arg):
+                    self.assertNotIn(node.arg, taken, (path.name, node.lineno))
+
+    def test_stars_stand_before_names(self):
+        for path, _, tree in sources():
+            for node in ast.walk(tree):
+                if isinstance(node, ast.Call):
+                    for each in node.args:
+                        if isinstance(each, ast.Starred):
+                            self.assertIsInstance(each.value, ast.Name, (path.name, node.lineno))
 
     def test_builtins_and_methods(self):
         own = {node.name for _, _, tree in sources() for node in ast.walk(tree)
@@ -87,6 +121,8 @@ class Language(unittest.TestCase):
             bound = {node.id for node in ast.walk(tree)
                      if isinstance(node, ast.Name) and isinstance(node.ctx, ast.Store)}
             bound |= {node.arg for node in ast.walk(tree) if isinstance(node, ast.arg)}
+            bound |= {node.name for node in ast.walk(tree)
+                      if isinstance(node, ast.ExceptHandler) and node.name is not None}
             bound |= {node.name for node in ast.walk(tree)
                       if isinstance(node, (ast.FunctionDef, ast.ClassDef))}
             for node in ast.walk(tree):

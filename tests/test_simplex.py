@@ -4,8 +4,9 @@ import random
 import unittest
 from fractions import Fraction
 
-from linear import hold_result, program
-from nolunch.simplex import solved
+from linear import hold_result, pair, program
+from nolunch.programs import best_of
+from nolunch.simplex import greatest_gains, solved
 
 
 class AnySize(unittest.TestCase):
@@ -42,6 +43,25 @@ class TiedRows(unittest.TestCase):
                 *[[(row * 7919 % 1009 + 1) * number for number in source.choice(kinds)]
                   for row in range(rows)])
             hold_result(self, told, solved(told))
+
+
+class SeveralGoals(unittest.TestCase):
+    def test_each_goal_is_as_if_it_was_alone(self):
+        source = random.Random(9)
+        for turn in range(150):
+            variables, rows = source.randint(1, 6), source.randint(1, 7)
+            # The last row lets nothing grow without end.
+            told = [[Fraction(source.randint(-3, 3), source.randint(1, 3)) for _ in range(variables)]
+                    + [Fraction(source.choice((0, 0, 1, 5)))] for _ in range(rows)]
+            told.append([Fraction(1, 2)] * variables + [Fraction(source.randint(0, 3))])
+            goals = [[Fraction(source.randint(-4, 4), source.randint(1, 4)) for _ in range(variables)]
+                     for _ in range(source.randint(0, 5))]
+            _, some = program([0] * variables, *told)
+            found = greatest_gains(list(some), [tuple(pair(number) for number in goal) for goal in goals])
+            self.assertEqual(len(found), len(goals))
+            for goal, gain in zip(goals, found):
+                _, point, _ = best_of(program(goal, *told))
+                self.assertEqual(pair(sum(a * Fraction(*b) for a, b in zip(goal, point))), gain)
 
 
 if __name__ == "__main__":
